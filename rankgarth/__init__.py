@@ -1,0 +1,1 @@
+"""Rankgarth: play without end, and who wins it."""

@@ -1,0 +1,41 @@
+"""The examples in README.md are answered as they stand there."""
+
+import pathlib
+import unittest
+
+README = pathlib.Path(__file__).resolve().parent.parent / "README.md"
+
+
+def code_lines():
+    inside = False
+    for line in README.read_text().splitlines():
+        if line.startswith("```"):
+            inside = line == "```python"
+        elif inside and line:
+            yield line
+
+
+class ReadmeTest(unittest.TestCase):
+    def test_examples(self):
+        names = {}
+        shown = 0
+        for line in code_lines():
+            call, sign, answer = line.partition("#")
+            if not sign or not call.strip() or not answer.strip().startswith(("[", "(", "0", "1")):
+                exec(call, names)
+                continue
+            answer = answer.strip().split(": ")[0]
+            self.assertEqual(eval(call, names), eval(answer, names), line)
+            shown += 1
+        self.assertGreaterEqual(shown, 12)
+
+    def test_the_rings_told_there(self):
+        names = {}
+        for line in code_lines():
+            exec(line, names)
+        self.assertIn(names["wrong_ring"](names["game"], 0), ([0, 1], [1, 0]))
+        self.assertEqual(names["lasso"](names["game"], 1, 0), ([0], [2]))
+
+
+if __name__ == "__main__":
+    unittest.main()
