@@ -41,11 +41,11 @@ def next_layer(layer, entries, lacking):
     return sorted(joined)
 
 
-def pulled(game, hand, goal, part=None):
+def layers_to(game, entries, hand, goal, part):
+    # The entries are the game's ways in: who pulls many times in one game finds them once.
     inside = part_marks(game, part)
     wanted = place_marks(len(game), goal)
     lacking = lacking_ways(game, hand, inside, wanted)
-    entries = ways_in(game)
     layers = []
     layer = [place for place in range(len(game)) if inside[place] and wanted[place]]
     while layer:
@@ -54,19 +54,26 @@ def pulled(game, hand, goal, part=None):
     return layers
 
 
+def pulled(game, hand, goal, part=None):
+    return layers_to(game, ways_in(game), hand, goal, part)
+
+
 def least_way(ways, marks):
     return min([way for way in ways if marks[way]])
 
 
-def pull_ways(game, hand, goal, part=None):
+def layer_ways(game, hand, layers):
     rule = [None] * len(game)
-    layers = pulled(game, hand, goal, part)
     for ahead, layer in zip(layers, layers[1:]):
         marks = place_marks(len(game), ahead)
         for place in layer:
             if game[place][0] == hand:
                 rule[place] = least_way(game[place][2], marks)
     return rule
+
+
+def pull_ways(game, hand, goal, part=None):
+    return layer_ways(game, hand, pulled(game, hand, goal, part))
 
 
 def places_outside(game, places):

@@ -177,6 +177,13 @@ class StatementsTest(unittest.TestCase):
             for part in node.body:
                 self.assertIsInstance(part, (ast.FunctionDef, ast.Pass), (name, node.name))
 
+    def test_no_name_is_a_method_and_a_value(self):
+        methods = [part.name for name, node in nodes_of(ast.ClassDef) for part in node.body
+                   if isinstance(part, ast.FunctionDef)]
+        for name, node in nodes_of(ast.Attribute):
+            if isinstance(node.ctx, ast.Store):
+                self.assertNotIn(node.attr, methods, (name, node.lineno))
+
 
 class ExpressionsTest(unittest.TestCase):
     def test_only_the_listed_ones(self):
@@ -192,6 +199,21 @@ class ExpressionsTest(unittest.TestCase):
                 self.assertLessEqual(len(node.generators[0].ifs), 1, where)
             if isinstance(node, ast.FormattedValue):
                 self.assertIsInstance(node.value, ast.Name, where)
+
+    def test_powers_have_a_written_exponent(self):
+        for name, node in nodes_of((ast.BinOp, ast.AugAssign)):
+            if isinstance(node.op, ast.Pow):
+                self.assertIn(node.right.value, range(65), (name, node.lineno))
+
+    def test_texts_have_no_percent_sign(self):
+        for name, node in nodes_of(ast.Constant):
+            self.assertNotIn("%", str(node.value), (name, node.lineno))
+
+    def test_only_the_listed_keywords(self):
+        for name, node in nodes_of(ast.Call):
+            told = [keyword.arg for keyword in node.keywords]
+            allowed = {"sorted": {"key", "reverse"}, "min": {"key", "default"}, "max": {"key", "default"}}
+            self.assertLessEqual(set(told), allowed.get(called_name(node), set()), (name, node.lineno))
 
     def test_is_stands_beside_none_and_truths_alone(self):
         for name, node in nodes_of(ast.Compare):

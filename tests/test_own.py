@@ -4,10 +4,15 @@ import copy
 import random
 import unittest
 
+from rankgarth.cuts import cuts, hand_rule, solved
+from rankgarth.errors import GarthError
 from rankgarth.games import game_of, thinned, turned, ways_in
+from rankgarth.needs import betterings, needs, solved_purses
 from rankgarth.pulls import keep_ways, kept, pull_ways, pulled, reached
+from rankgarth.purses import is_enough, need_by, purse_game, turned_purses
 from rankgarth.rings import fixed, lasso, loops, played, ring_hand, wrong_ring
-from tests.samples import great_games, random_rule
+from rankgarth.roads import amounts_of, is_paper, papers, solved_by_purses
+from tests.samples import great_games, great_purse_games, random_rule, small_purse_games
 
 
 def game_calls(game):
@@ -33,6 +38,22 @@ def game_calls(game):
         ]
     calls += [(reached, [game, goal]), (reached, [game, []])]
     calls += [(loops, [[3, 1, 3, 4, 1, -9, 1]]), (loops, [[1, 2, 3]])]
+    calls += [(solved, [game]), (cuts, [game])]
+    calls += [(hand_rule, [game, solved(game)[1], hand]) for hand in (0, 1)]
+    if count <= 16:
+        calls += [(amounts_of, [game]), (papers, [game]), (solved_by_purses, [game])]
+        calls += [(is_paper, [game, hand, papers(game)[hand]]) for hand in (0, 1)]
+    return calls
+
+
+def purse_calls(game):
+    table = solved_purses(game)[0]
+    calls = [(purse_game, [[(row[0], row[1][::-1]) for row in game]]), (purse_game, [game])]
+    calls += [(need_by, [table, 0, 5]), (is_enough, [game, table]), (is_enough, [game, [None] * len(game)])]
+    calls += [(betterings, [game]), (solved_purses, [game])]
+    calls.append((needs, [game, [row[1][-1][0] if row[0] == 1 else None for row in game]]))
+    if max(abs(amount) for hand, ways in game for place, amount in ways) < 10 ** 58:
+        calls.append((turned_purses, [game]))
     return calls
 
 
@@ -42,6 +63,9 @@ def all_calls():
     calls = []
     for game in [small, low] + great_games():
         calls += game_calls(game)
+    for game in small_purse_games() + great_purse_games():
+        if game:
+            calls += purse_calls(game)
     return calls
 
 
@@ -94,11 +118,24 @@ class OwnTest(unittest.TestCase):
 
     def test_no_list_is_told_twice_or_handed_back(self):
         for call, args in all_calls():
-            told = [id(one) for one in lists_within(call(*args))]
+            # Kept until the end, so that no two things have the same id.
+            answer = call(*args)
+            told = [id(one) for one in lists_within(answer)]
             handed = [id(one) for one in lists_within(args)]
-            if call is not ring_hand:
-                self.assertEqual(len(set(told)), len(told), call.__name__)
-                self.assertEqual(set(told) & set(handed), set(), call.__name__)
+            self.assertEqual(len(set(told)), len(told), call.__name__)
+            self.assertEqual(set(told) & set(handed), set(), call.__name__)
+
+    def test_refusals_change_nothing(self):
+        game = purse_game([(1, [(0, 10 ** 60 - 1), (1, 3)]), (0, [(1, 0), (0, -4)])])
+        rows = [(1, [(1, 0), (0, 2)]), (0, [(1, 0), (1, 5)])]
+        low = game_of([(place % 2, place % 3, [place, 16 - place]) for place in range(17)])
+        for call, args in (
+            (purse_game, [rows]), (turned_purses, [game]), (needs, [game, [None, None]]),
+            (papers, [low]), (is_paper, [low, 0, [None] * 17]),
+        ):
+            before = copy.deepcopy(args)
+            self.assertRaises(GarthError, call, *args)
+            self.assertEqual(args, before, call.__name__)
 
 
 if __name__ == "__main__":

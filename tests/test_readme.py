@@ -3,6 +3,8 @@
 import pathlib
 import unittest
 
+# What a remark begins with that tells the answer of its row.
+ANSWERS = ("[", "(", "0", "1", "2", "3", "None", "True", "False")
 README = pathlib.Path(__file__).resolve().parent.parent / "README.md"
 
 
@@ -19,15 +21,19 @@ class ReadmeTest(unittest.TestCase):
     def test_examples(self):
         names = {}
         shown = 0
+        above = ""
         for line in code_lines():
             call, sign, answer = line.partition("#")
-            if not sign or not call.strip() or not answer.strip().startswith(("[", "(", "0", "1")):
+            if not sign or not answer.strip().startswith(ANSWERS):
                 exec(call, names)
+                above = call
                 continue
-            answer = answer.strip().split(": ")[0]
+            # A remark on a row of its own tells the answer of the row above it.
+            call = call.strip() or above.split(" = ")[0]
+            answer = answer.strip().split(": ")[0].split(", as ")[0]
             self.assertEqual(eval(call, names), eval(answer, names), line)
             shown += 1
-        self.assertGreaterEqual(shown, 12)
+        self.assertGreaterEqual(shown, 28)
 
     def test_the_rings_told_there(self):
         names = {}
