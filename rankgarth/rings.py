@@ -106,6 +106,10 @@ def lasso(game, hand, start):
     return ([start] + road[:-1], ring_begun_at(ring, entry))
 
 
+def picked(ways, pick):
+    return ways[pick % len(ways)]
+
+
 def played(game, hand, rule, start, picks):
     check_rule(game, hand, rule)
     play = [start]
@@ -113,8 +117,7 @@ def played(game, hand, rule, start, picks):
     for pick in picks:
         way = rule[place]
         if way is None:
-            ways = game[place][2]
-            way = ways[pick % len(ways)]
+            way = picked(game[place][2], pick)
         play.append(way)
         place = way
     return play

@@ -283,3 +283,13 @@ def least_purses(game):
     """What the keeper needs against the best rule of the spender."""
     tables = [rule_needs(game, rule) for rule in all_rules(game, 1)]
     return [most([table[place] for table in tables]) for place in range(len(game))]
+
+
+def all_wishes(asks, deeds):
+    """Each wish that there is of so many asks and deeds."""
+    each = [(ask, deed) for ask in range(asks) for deed in range(deeds)]
+    wishes = [(word, ask, deed) for word in ("answer", "not", "only") for ask, deed in each]
+    wishes += [("within", ask, deed, more) for ask, deed in each for more in range(7)]
+    wishes += [("never", deed, other) for deed in range(deeds) for other in range(deeds)]
+    wishes += [("often", deed) for deed in range(deeds)]
+    return wishes + [(word, ask) for word in ("hope", "calm") for ask in range(asks)]

@@ -7,11 +7,15 @@ import unittest
 from rankgarth.cuts import cuts, hand_rule, solved
 from rankgarth.errors import GarthError
 from rankgarth.games import game_of, thinned, turned, ways_in
+from rankgarth.machines import Runner, apart, differ, least_machine, machine_of, told
 from rankgarth.needs import betterings, needs, solved_purses
 from rankgarth.pulls import keep_ways, kept, pull_ways, pulled, reached
 from rankgarth.purses import is_enough, need_by, purse_game, turned_purses
 from rankgarth.rings import fixed, lasso, loops, played, ring_hand, wrong_ring
 from rankgarth.roads import amounts_of, is_paper, papers, solved_by_purses
+from rankgarth.turns import in_turn, turn_game, went
+from rankgarth.watch import Watch
+from rankgarth.wishes import wish_of
 from tests.samples import great_games, great_purse_games, random_rule, small_purse_games
 
 
@@ -57,6 +61,66 @@ def purse_calls(game):
     return calls
 
 
+def turn_calls(game, hopes, marks):
+    calls = [(turn_game, [game, hopes, marks]), (in_turn, [game, hopes, marks])]
+    for hand in (0, 1):
+        memory = in_turn(game, hopes, marks)[1 + hand]
+        calls += [(went, [game, hand, memory, 0, [7, -3, 10 ** 59, 0]]), (went, [game, hand, memory, 0, []])]
+    return calls
+
+
+def great_turn_calls():
+    calls = []
+    for game in great_games():
+        count = len(game)
+        calls += turn_calls(game, [], [])
+        calls += turn_calls(game, [[count - 1, 0, 0]], [[1, 2, 1]])
+        if count <= 16:
+            calls += turn_calls(game, [[3, 1, 3], [0]], [[count - 1, 0], [1], [2, 4, 2], [], [5]])
+    return calls
+
+
+def ran(machine, asks):
+    runner = Runner(machine)
+    return [(runner.step(ask), runner.state) for ask in asks]
+
+
+def machine_calls():
+    source = random.Random(32)
+    calls = []
+    for states, asks in ((1, 1), (2, 1), (5, 3), (160, 8)):
+        rows = [[(source.randrange(2), source.randrange(states)) for ask in range(asks)] for state in range(states)]
+        machine = machine_of(states - 1, rows)
+        row = [source.randrange(asks) for ask in range(50)]
+        calls += [
+            (machine_of, [states - 1, rows]), (told, [machine, row]), (told, [machine, []]), (ran, [machine, row]),
+            (apart, [machine, 0, states - 1]), (apart, [machine, 0, 0]), (least_machine, [machine]),
+            (differ, [machine, machine]), (differ, [machine, (0, rows)]),
+        ]
+    return calls
+
+
+WISHES = [("answer", 0, 1), ("often", 0), ("within", 1, 0, 3), ("only", 1, 1), ("hope", 0), ("calm", 1)]
+
+
+def wish_told(row, asks, deeds):
+    wish = wish_of(row, asks, deeds)
+    states = range(wish.many())
+    return (wish.word, [(wish.met(state), wish.after(state, 1, 0), wish.after(state, 2, 3)) for state in states])
+
+
+def watched(asks, deeds, wishes, ticks):
+    watch = Watch(asks, deeds, wishes)
+    return [watch.met()] + [[watch.tick(*tick), watch.met()] for tick in ticks]
+
+
+def wish_calls():
+    ticks = [(1, 0), (2, 2), (0, 1), (0, 3), (3, 0), (0, 0), (0, 0), (0, 0), (0, 0), (1, 1)]
+    calls = [(wish_told, [row, 2, 2]) for row in WISHES + [("never", 0, 1), ("not", 1, 0)]]
+    calls += [(watched, [2, 2, WISHES, ticks]), (watched, [2, 2, WISHES[:2] * 3, ticks]), (watched, [2, 2, [], ticks])]
+    return calls
+
+
 def all_calls():
     small = game_of([(0, 3, [1, 2]), (1, 4, [0, 1]), (0, 1, [0, 2, 3]), (1, 0, [2, 3])])
     low = game_of([(place % 2, place % 2, [place, 159 - place]) for place in range(160)])
@@ -66,7 +130,8 @@ def all_calls():
     for game in small_purse_games() + great_purse_games():
         if game:
             calls += purse_calls(game)
-    return calls
+    calls += turn_calls(small, [[3, 0, 3]], [[1], [2, 2, 0]]) + great_turn_calls()
+    return calls + machine_calls() + wish_calls()
 
 
 def lists_within(value):
@@ -132,10 +197,60 @@ class OwnTest(unittest.TestCase):
         for call, args in (
             (purse_game, [rows]), (turned_purses, [game]), (needs, [game, [None, None]]),
             (papers, [low]), (is_paper, [low, 0, [None] * 17]),
+            (turn_game, [low, [[3, 2, 3]], [[1, 17]]]), (in_turn, [low, [[2, 1, 2]] * 2, [[0, 4]] * 5]),
+            (machine_of, [0, [[(3, 1)], [(2, 2)]]]), (told, [(0, [[(3, 0), (1, 0)]]), [0, 1, 2, 0]]),
+            (differ, [(0, [[(3, 0), (1, 0)]]), (0, [[(3, 0)]])]),
+            (Watch, [1, 1, [("often", 0), ("always", 0), ("often", 0)]]),
         ):
             before = copy.deepcopy(args)
             self.assertRaises(GarthError, call, *args)
             self.assertEqual(args, before, call.__name__)
+
+    def test_a_runner_keeps_its_machine(self):
+        machine = machine_of(0, [[(5, 1), (6, 0)], [(7, 0), (8, 1)]])
+        rows = copy.deepcopy(machine[1])
+        runner = Runner(machine)
+        self.assertEqual(runner.step(0), 5)
+        spoil(machine)
+        machine[1][0] = machine[1][1] = [(0, 0)]
+        self.assertEqual([(runner.step(ask), runner.state) for ask in (1, 0, 1, 0)], [(8, 1), (7, 0), (6, 0), (5, 1)])
+        self.assertEqual(told((0, rows), [0, 1, 0, 1]), [5, 8, 7, 6])
+
+    def test_a_machine_is_apart_from_the_rows_that_it_was_made_of(self):
+        rows = [[(5, 1), (6, 0)], [(7, 0), (8, 1)]]
+        machine = machine_of(0, rows)
+        runner = Runner(machine)
+        spoil(rows)
+        self.assertEqual(machine, (0, [[(5, 1), (6, 0)], [(7, 0), (8, 1)]]))
+        self.assertEqual((runner.step(0), runner.step(1)), (5, 8))
+
+    def test_a_runner_does_not_change_its_machine(self):
+        machine = machine_of(0, [[(5, 1), (6, 0)], [(7, 0), (8, 1)]])
+        before = copy.deepcopy(machine)
+        runner = Runner(machine)
+        for ask in (0, 1, 0, 0):
+            runner.step(ask)
+        self.assertRaises(GarthError, runner.step, 2)
+        self.assertEqual(machine, before)
+
+    def test_a_watch_keeps_its_wishes(self):
+        wishes = [("within", 0, 0, 1), ("often", 0), ("answer", 0, 0)]
+        watch = Watch(1, 1, wishes)
+        spoil(wishes)
+        wishes.clear()
+        self.assertEqual((watch.met(), watch.tick(1, 1), watch.met()), ([2], True, [1, 2]))
+        self.assertEqual((watch.tick(1, 0), watch.tick(0, 0), watch.met()), (True, False, []))
+
+    def test_what_a_watch_told_stays_and_changes_nothing(self):
+        watch = Watch(1, 1, [("often", 0), ("answer", 0, 0)])
+        first = watch.met()
+        watch.tick(0, 1)
+        self.assertEqual(first, [1])
+        second = watch.met()
+        spoil(second)
+        self.assertEqual(watch.met(), [0, 1])
+        self.assertTrue(watch.tick(1, 0))
+        self.assertEqual(watch.met(), [])
 
 
 if __name__ == "__main__":

@@ -33,7 +33,7 @@ class ReadmeTest(unittest.TestCase):
             answer = answer.strip().split(": ")[0].split(", as ")[0]
             self.assertEqual(eval(call, names), eval(answer, names), line)
             shown += 1
-        self.assertGreaterEqual(shown, 28)
+        self.assertGreaterEqual(shown, 49)
 
     def test_the_rings_told_there(self):
         names = {}
