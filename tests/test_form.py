@@ -27,6 +27,17 @@ WORDS_NOWHERE = re.compile(
     r"|namedtuple|NamedTuple|TypedDict|TYPE_CHECKING|abstractmethod)\b|dataclass|overload|contextmanager"
 )
 
+NAMES_NOWHERE = set("register mro elements open input version_info with_traceback add_note format format_map".split())
+
+NO_NAMES = set("""
+    attrgetter breakpoint builtins compile copyright credits delattr dir eval exec exit gc getattr globals hasattr
+    help id importlib license locals methodcaller os quit setattr super type vars sys chr print
+""".split())
+
+FREE_VALUES = set("count index title find get join lower upper split strip copy add".split())
+
+CHANGES = set("append clear extend insert pop remove reverse setdefault update".split())
+
 STATEMENTS = (
     ast.Assign, ast.AugAssign, ast.If, ast.While, ast.For, ast.Return, ast.Break, ast.Continue, ast.Pass,
     ast.Raise, ast.Try, ast.Expr, ast.FunctionDef, ast.ClassDef, ast.ImportFrom,
@@ -71,6 +82,16 @@ def bound_names(tree):
             yield node.id
         elif isinstance(node, (ast.FunctionDef, ast.ClassDef)) and node.name not in SPECIAL_METHODS:
             yield node.name
+
+
+def walked_names(node):
+    """The names of what a loop walks, itself or through a call."""
+    if isinstance(node, ast.Name):
+        return [node.id]
+    if isinstance(node, ast.Call):
+        parts = node.args + ([node.func.value] if isinstance(node.func, ast.Attribute) else [])
+        return [name for part in parts for name in walked_names(part)]
+    return []
 
 
 class FilesTest(unittest.TestCase):
@@ -150,6 +171,67 @@ class NamesTest(unittest.TestCase):
         for name, node in nodes_of(ast.Call):
             if isinstance(node.func, ast.Attribute):
                 self.assertIn(node.func.attr, list(ALLOWED_METHODS) + own, (name, node.lineno))
+
+
+    def test_names_that_are_not_used(self):
+        for path, tree in trees():
+            names = [node.id for node in ast.walk(tree) if isinstance(node, ast.Name)] + list(bound_names(tree))
+            attributes = [node.attr for node in ast.walk(tree) if isinstance(node, ast.Attribute)]
+            self.assertEqual(set(names) & (NAMES_NOWHERE | NO_NAMES), set(), path.name)
+            self.assertEqual(set(attributes) & NAMES_NOWHERE, set(), path.name)
+
+    def test_own_methods_and_values_have_free_names(self):
+        taken = {name for kind in (str, int, list, dict, set, bytes, tuple) for name in dir(kind)}
+        for name, node in nodes_of(ast.ClassDef):
+            methods = {part.name for part in node.body if isinstance(part, ast.FunctionDef)} - SPECIAL_METHODS
+            self.assertEqual(methods & taken - ALLOWED_METHODS - {"add", "discard"}, set(), name)
+        for name, node in nodes_of(ast.Attribute):
+            if isinstance(node.ctx, ast.Store):
+                self.assertNotIn(node.attr, taken - FREE_VALUES, (name, node.lineno))
+
+    def test_no_parameter_and_no_local_is_called_like_a_class(self):
+        for path, tree in trees():
+            classes = [node.name for node in ast.walk(tree) if isinstance(node, ast.ClassDef)]
+            bound = [node.arg for node in ast.walk(tree) if isinstance(node, ast.arg)]
+            bound += [node.id for node in ast.walk(tree) if isinstance(node, ast.Name) and isinstance(node.ctx, ast.Store)]
+            self.assertEqual(set(classes) & set(bound), set(), path.name)
+
+
+class KeptNowhereTest(unittest.TestCase):
+    def test_lists_and_dicts_of_the_top_are_only_read(self):
+        for path, tree in trees():
+            kept = [node for node in tree.body if isinstance(node, ast.Assign) and isinstance(node.value, (ast.List, ast.Dict))]
+            tops = {node.targets[0].id for node in kept}
+            for node in kept:
+                within = [part for part in ast.walk(node.value) if isinstance(part, (ast.List, ast.Dict))]
+                self.assertEqual(len(within), 1, (path.name, node.lineno))
+            allowed = {node.targets[0] for node in kept}
+            for node in ast.walk(tree):
+                if isinstance(node, ast.Subscript) and isinstance(node.ctx, ast.Load):
+                    allowed.add(node.value)
+                elif isinstance(node, (ast.For, ast.comprehension)):
+                    allowed.add(node.iter)
+                elif isinstance(node, ast.Compare):
+                    allowed.update(node.comparators)
+            for node in ast.walk(tree):
+                if isinstance(node, ast.Name) and node.id in tops:
+                    self.assertIn(node, allowed, (path.name, node.lineno))
+
+    def test_what_a_loop_walks_is_not_changed_in_it(self):
+        for name, node in nodes_of(ast.For):
+            walked = walked_names(node.iter)
+            for part in node.body:
+                for call in ast.walk(part):
+                    if isinstance(call, ast.Call) and isinstance(call.func, ast.Attribute) and call.func.attr in CHANGES:
+                        changed = call.func.value
+                        self.assertFalse(isinstance(changed, ast.Name) and changed.id in walked, (name, call.lineno))
+
+    def test_errors_are_made_on_the_spot(self):
+        for name, node in nodes_of(ast.Raise):
+            self.assertIsInstance(node.exc, ast.Call, (name, node.lineno))
+        for name, node in nodes_of(ast.ExceptHandler):
+            self.assertIsInstance(node.type, ast.Name, (name, node.lineno))
+            self.assertNotIn(node.type.id, ("Exception", "TypeError"), (name, node.lineno))
 
 
 class StatementsTest(unittest.TestCase):

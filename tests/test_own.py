@@ -5,18 +5,24 @@ import random
 import unittest
 
 from rankgarth.cuts import cuts, hand_rule, solved
+from rankgarth.desk import Desk
 from rankgarth.errors import GarthError
 from rankgarth.games import game_of, thinned, turned, ways_in
 from rankgarth.machines import Runner, apart, differ, least_machine, machine_of, told
 from rankgarth.needs import betterings, needs, solved_purses
+from rankgarth.plays import PursePlay, RankPlay, WishPlay
 from rankgarth.pulls import keep_ways, kept, pull_ways, pulled, reached
 from rankgarth.purses import is_enough, need_by, purse_game, turned_purses
 from rankgarth.rings import fixed, lasso, loops, played, ring_hand, wrong_ring
 from rankgarth.roads import amounts_of, is_paper, papers, solved_by_purses
+from rankgarth.serve import solve_wishes
+from rankgarth.texts import read_game, read_purses, read_wishes, shown_game, shown_purses, shown_wishes
 from rankgarth.turns import in_turn, turn_game, went
 from rankgarth.watch import Watch
 from rankgarth.wishes import wish_of
 from tests.samples import great_games, great_purse_games, random_rule, small_purse_games
+from tests.test_serve import BROKEN, GREATEST, KEPT
+from tests.test_texts import names_for
 
 
 def game_calls(game):
@@ -121,6 +127,61 @@ def wish_calls():
     return calls
 
 
+def other_way(game, place, turn):
+    way = game[place][-1][turn % len(game[place][-1])]
+    return way[0] if isinstance(way, tuple) else way
+
+
+def gone(kind, game, *start):
+    """What a play of ranks or of purses tells, the other hand going now one way, now another."""
+    play = kind(game, *start)
+    told = [play.hand]
+    for turn in range(12):
+        if getattr(play, "left", 0) < 0:
+            break
+        if game[play.at][0] == play.hand:
+            told.append(play.go())
+        else:
+            told.append(play.other(other_way(game, play.at, turn)))
+        told.append([play.at, getattr(play, "left", None)])
+    return told
+
+
+def ticked_on(asks, deeds, wishes, numbers):
+    play = WishPlay(asks, deeds, wishes)
+    return [play.kept] + [[None if play.kept else play.now(), play.tick(number)] for number in numbers]
+
+
+def said(rows):
+    desk = Desk()
+    return [desk.say(row) for row in rows]
+
+
+SAID = [
+    "game g a+3 b a; b-0 a", "purse p a+ a:-1 b:4; b- a:-3", "wish w 1 1: not 0 0; answer 0 0", "show g", "show p", "show w",
+    "turn h g", "show h", "won h a", "need p a", "serve w", "play g b", "go", "play p a 0", "go", "go a", "left", "play w",
+    "now", "tick 1", "drop g",
+]
+
+
+def late_calls():
+    calls = []
+    for asks, deeds, wishes in KEPT + BROKEN + GREATEST:
+        calls += [(solve_wishes, [asks, deeds, wishes]), (ticked_on, [asks, deeds, wishes, [0, 1, 1, 0, 1]])]
+        text = shown_wishes(asks, deeds, wishes)
+        calls += [(shown_wishes, [asks, deeds, wishes]), (read_wishes, [text])]
+    for game in great_games():
+        names = names_for(len(game))
+        calls += [(shown_game, [names, game]), (read_game, [shown_game(names, game)])]
+        calls += [(gone, [RankPlay, game, start]) for start in (0, len(game) - 1)]
+    for game in small_purse_games() + great_purse_games():
+        names = names_for(len(game))
+        calls += [(shown_purses, [names, game]), (read_purses, [shown_purses(names, game)])]
+        if game:
+            calls += [(gone, [PursePlay, game, len(game) - 1, purse]) for purse in (0, 5, 10 ** 69)]
+    return calls + [(said, [SAID])]
+
+
 def all_calls():
     small = game_of([(0, 3, [1, 2]), (1, 4, [0, 1]), (0, 1, [0, 2, 3]), (1, 0, [2, 3])])
     low = game_of([(place % 2, place % 2, [place, 159 - place]) for place in range(160)])
@@ -131,7 +192,7 @@ def all_calls():
         if game:
             calls += purse_calls(game)
     calls += turn_calls(small, [[3, 0, 3]], [[1], [2, 2, 0]]) + great_turn_calls()
-    return calls + machine_calls() + wish_calls()
+    return calls + machine_calls() + wish_calls() + late_calls()
 
 
 def lists_within(value):
@@ -201,6 +262,9 @@ class OwnTest(unittest.TestCase):
             (machine_of, [0, [[(3, 1)], [(2, 2)]]]), (told, [(0, [[(3, 0), (1, 0)]]), [0, 1, 2, 0]]),
             (differ, [(0, [[(3, 0), (1, 0)]]), (0, [[(3, 0)]])]),
             (Watch, [1, 1, [("often", 0), ("always", 0), ("often", 0)]]),
+            (solve_wishes, [1, 1, [("often", 0), ("always", 0), ("often", 0)]]),
+            (solve_wishes, [2, 1, [("only", 1, 0), ("only", 0, 0)] * 3]),
+            (WishPlay, [2, 1, [("only", 1, 0), ("only", 0, 0)] * 3]), (RankPlay, [low, 17]), (PursePlay, [game, -1, 5]),
         ):
             before = copy.deepcopy(args)
             self.assertRaises(GarthError, call, *args)
@@ -251,6 +315,67 @@ class OwnTest(unittest.TestCase):
         self.assertEqual(watch.met(), [0, 1])
         self.assertTrue(watch.tick(1, 0))
         self.assertEqual(watch.met(), [])
+
+    def test_a_rank_play_keeps_its_game(self):
+        game = game_of([(0, 1, [0, 1]), (1, 2, [0, 2]), (0, 0, [1]), (1, 9, [3])])
+        before = copy.deepcopy(game)
+        play = RankPlay(game, 0)
+        play.go()
+        play.other(2)
+        self.assertEqual(game, before)
+        spoil(game)
+        game.clear()
+        self.assertEqual((play.go(), play.other(0), play.go()), (1, None, 1))
+        self.assertRaises(GarthError, play.other, 1)
+        self.assertRaises(GarthError, play.other, 99)
+
+    def test_a_purse_play_keeps_its_game(self):
+        game = purse_game([(0, [(0, -1), (1, -3)]), (1, [(0, 3), (1, 2)])])
+        before = copy.deepcopy(game)
+        play = PursePlay(game, 0, 3)
+        play.go()
+        play.other(1)
+        self.assertEqual(game, before)
+        game[1][1][0] = (0, -50)
+        spoil(game)
+        game.clear()
+        self.assertEqual((play.other(0), play.left, play.go(), play.left), (None, 5, 1, 2))
+        self.assertRaises(GarthError, play.other, 2)
+
+    def test_plays_of_one_game_are_apart(self):
+        game = game_of([(0, 1, [0, 1]), (1, 2, [0, 1])])
+        one = RankPlay(game, 0)
+        other = RankPlay(game, 1)
+        one.go()
+        one.other(0)
+        self.assertEqual((one.at, other.at), (0, 1))
+        self.assertEqual(solved(game), ([0, 0], [1, None]))
+
+    def test_a_wish_play_keeps_its_wishes(self):
+        for wishes in ([("within", 0, 0, 0), ("only", 0, 0)], [("within", 0, 0, 1), ("never", 0, 0)]):
+            expected = ticked_on(1, 1, wishes, [0, 1, 0, 1, 1, 0])
+            play = WishPlay(1, 1, wishes)
+            spoil(wishes)
+            wishes.clear()
+            told = [play.kept] + [[None if play.kept else play.now(), play.tick(number)] for number in [0, 1, 0, 1, 1, 0]]
+            self.assertEqual(told, expected)
+
+    def test_what_wishes_told_changes_no_play(self):
+        wishes = [("within", 0, 0, 0), ("only", 0, 0)]
+        play = WishPlay(1, 1, wishes)
+        made = solve_wishes(1, 1, wishes)
+        spoil(made)
+        self.assertEqual([play.tick(asks) for asks in (1, 0, 1)], [1, 0, 1])
+        self.assertEqual(ticked_on(1, 1, wishes, [1, 0, 1]), [True, [None, 1], [None, 0], [None, 1]])
+
+    def test_what_texts_told_is_the_askers_own(self):
+        for read, text in ((read_game, "a+3 b; b-0 a b"), (read_purses, "a+ a:1; b- a:0"), (read_wishes, "1 1: often 0")):
+            first = read(text)
+            before = copy.deepcopy(first)
+            second = read(text)
+            spoil(second)
+            self.assertEqual(first, before)
+            self.assertEqual(read(text), before)
 
 
 if __name__ == "__main__":

@@ -4,7 +4,7 @@ import pathlib
 import unittest
 
 # What a remark begins with that tells the answer of its row.
-ANSWERS = ("[", "(", "0", "1", "2", "3", "None", "True", "False")
+ANSWERS = ("[", "(", "0", "1", "2", "3", "None", "True", "False", '"')
 README = pathlib.Path(__file__).resolve().parent.parent / "README.md"
 
 
@@ -15,6 +15,15 @@ def code_lines():
             inside = line == "```python"
         elif inside and line:
             yield line
+
+
+def answer_of(remark):
+    """The answer without the words behind it."""
+    remark = remark.strip()
+    # A text may hold what would part the answer from the words.
+    if remark.startswith('"'):
+        return remark[:remark.index('"', 1) + 1]
+    return remark.split(": ")[0].split(", as ")[0]
 
 
 class ReadmeTest(unittest.TestCase):
@@ -30,10 +39,9 @@ class ReadmeTest(unittest.TestCase):
                 continue
             # A remark on a row of its own tells the answer of the row above it.
             call = call.strip() or above.split(" = ")[0]
-            answer = answer.strip().split(": ")[0].split(", as ")[0]
-            self.assertEqual(eval(call, names), eval(answer, names), line)
+            self.assertEqual(eval(call, names), eval(answer_of(answer), names), line)
             shown += 1
-        self.assertGreaterEqual(shown, 49)
+        self.assertGreaterEqual(shown, 73)
 
     def test_the_rings_told_there(self):
         names = {}
